@@ -1,0 +1,1 @@
+"""Renamedhorn: clauses made plain by turning names over."""

@@ -1,0 +1,54 @@
+"""Names and literals: what they are, and the order in which literals stand."""
+
+from renamedhorn.errors import BadLiteral, BadName
+
+LETTERS = "abcdefghijklmnopqrstuvwxyz"
+LETTERS_AND_DIGITS = "abcdefghijklmnopqrstuvwxyz0123456789"
+LONGEST_NAME = 8
+
+
+def is_name(text):
+    """Tell whether a string is a name."""
+    if not 1 <= len(text) <= LONGEST_NAME:
+        return False
+    return text[0] in LETTERS and all([sign in LETTERS_AND_DIGITS for sign in text])
+
+
+def is_literal(text):
+    """Tell whether a string is a name, or a minus sign and a name."""
+    return is_name(text.removeprefix("-"))
+
+
+def check_literal(text):
+    """Raise BadLiteral if a string is not a literal."""
+    if not is_literal(text):
+        raise BadLiteral(text)
+
+
+def name_of(literal):
+    """The name of a literal."""
+    check_literal(literal)
+    return literal.removeprefix("-")
+
+
+def is_positive(literal):
+    """Tell whether a literal is a name without a sign."""
+    return name_of(literal) == literal
+
+
+def negated(literal):
+    """The literal of the same name and the other sign."""
+    if is_positive(literal):
+        return f"-{literal}"
+    return name_of(literal)
+
+
+def in_order(literals):
+    """The different literals of a list, in literal order."""
+    names = [name_of(literal) for literal in literals]
+    return [
+        literal
+        for name in sorted(set(names))
+        for literal in (name, f"-{name}")
+        if literal in literals
+    ]

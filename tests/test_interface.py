@@ -1,0 +1,96 @@
+"""The interface: each name stands in the file, and each method in the class, under which it is listed."""
+
+import importlib
+import inspect
+import unittest
+
+FUNCTIONS = {
+    "literals": {
+        "is_name": "(text)",
+        "is_literal": "(text)",
+        "name_of": "(literal)",
+        "is_positive": "(literal)",
+        "negated": "(literal)",
+        "in_order": "(literals)",
+    },
+}
+
+CLASSES = {
+    "shares.Share": "(top, bottom=1)",
+    "clauses.Clause": "(*literals)",
+}
+
+METHODS = {
+    "shares.Share": "add radd sub rsub mul rmul floordiv rfloordiv neg abs bool eq lt le gt ge str",
+    "clauses.Clause": "iter len contains eq lt le or and sub str",
+}
+
+PLAIN_METHODS = {
+    "shares.Share": {"over": "(self, other)"},
+    "clauses.Clause": {},
+}
+
+STATIC_METHODS = {"shares.Share": {"read": "(text)"}}
+CLASS_METHODS = {}
+PROPERTIES = {"clauses.Clause": ["names", "positives"]}
+CLASS_VALUES = {"clauses.Clause": {"LIMIT": 6}}
+
+
+def module_of(word):
+    return importlib.import_module("renamedhorn." + word.split(".")[0])
+
+
+def body_of(word):
+    """The names that the body of a class binds itself."""
+    return vars(getattr(module_of(word), word.split(".")[1]))
+
+
+class InterfaceTest(unittest.TestCase):
+    def test_functions(self):
+        for file, functions in FUNCTIONS.items():
+            for word, parameters in functions.items():
+                with self.subTest(file=file, word=word):
+                    function = vars(module_of(file))[word]
+                    self.assertTrue(inspect.isfunction(function))
+                    self.assertEqual(function.__module__, "renamedhorn." + file)
+                    self.assertEqual(str(inspect.signature(function)), parameters)
+
+    def test_classes(self):
+        for word, parameters in CLASSES.items():
+            with self.subTest(word=word):
+                made = getattr(module_of(word), word.split(".")[1])
+                self.assertEqual(made.__module__, "renamedhorn." + word.split(".")[0])
+                self.assertIn("__init__", vars(made))
+                self.assertEqual(str(inspect.signature(made)), parameters)
+
+    def test_operators(self):
+        for word, signs in METHODS.items():
+            for sign in signs.split():
+                with self.subTest(word=word, sign=sign):
+                    self.assertTrue(inspect.isfunction(body_of(word).get(f"__{sign}__")))
+
+    def test_plain_methods(self):
+        for word, methods in PLAIN_METHODS.items():
+            for name, parameters in methods.items():
+                with self.subTest(word=word, name=name):
+                    self.assertEqual(str(inspect.signature(body_of(word)[name])), parameters)
+
+    def test_static_and_class_methods(self):
+        for rows, kind in ((STATIC_METHODS, staticmethod), (CLASS_METHODS, classmethod)):
+            for word, methods in rows.items():
+                for name, parameters in methods.items():
+                    with self.subTest(word=word, name=name):
+                        self.assertIsInstance(body_of(word)[name], kind)
+                        self.assertEqual(str(inspect.signature(body_of(word)[name].__func__)), parameters)
+
+    def test_properties(self):
+        for word, names in PROPERTIES.items():
+            for name in names:
+                with self.subTest(word=word, name=name):
+                    self.assertIsInstance(body_of(word)[name], property)
+
+    def test_class_values(self):
+        for word, values in CLASS_VALUES.items():
+            for name, value in values.items():
+                with self.subTest(word=word, name=name):
+                    self.assertEqual(body_of(word)[name], value)
