@@ -1,4 +1,4 @@
-"""Names and literals: what they are, and the order in which literals stand."""
+"""Names and literals: what they are, and the orders in which they stand."""
 
 from renamedhorn.errors import BadLiteral, BadName
 
@@ -17,6 +17,12 @@ def is_name(text):
 def is_literal(text):
     """Tell whether a string is a name, or a minus sign and a name."""
     return is_name(text.removeprefix("-"))
+
+
+def check_name(text):
+    """Raise BadName if a string is not a name."""
+    if not is_name(text):
+        raise BadName(text)
 
 
 def check_literal(text):
@@ -41,6 +47,13 @@ def negated(literal):
     if is_positive(literal):
         return f"-{literal}"
     return name_of(literal)
+
+
+def names_in_order(names):
+    """The different names of a list, in ascending order."""
+    for name in names:
+        check_name(name)
+    return sorted(set(names))
 
 
 def in_order(literals):

@@ -43,7 +43,7 @@ def _floor(share):
 def _reads_as_integer(text):
     """Tell whether a text is digits, not too many to be read, perhaps behind a minus sign."""
     digits = text.removeprefix("-")
-    return digits.isascii() and digits.isdigit() and len(digits) <= MOST_DIGITS
+    return digits.isdecimal() and len(digits) <= MOST_DIGITS
 
 
 class Share:
@@ -68,7 +68,7 @@ class Share:
             raise BadShare(text)
         if int(bottom) == 0:
             raise BadShare(text)
-        # Signs, zeros and common factors that no share writes show when it is written again.
+        # Signs, zeros and factors that no share writes show when the share is written again.
         share = Share(int(top), int(bottom))
         if str(share) != text:
             raise BadShare(text)

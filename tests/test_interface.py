@@ -13,27 +13,59 @@ FUNCTIONS = {
         "negated": "(literal)",
         "in_order": "(literals)",
     },
+    "printing": {
+        "clause_text": "(clause)",
+        "book_text": "(book)",
+        "weights_text": "(weights)",
+        "mixture_text": "(mixture)",
+    },
+    "reading": {
+        "read_clause": "(text)",
+        "read_book": "(text)",
+    },
+    "needs": {
+        "needs": "(book, literal)",
+        "reach": "(book, literal)",
+        "chain": "(book, start, goal)",
+        "is_chain": "(book, start, goal, links)",
+    },
 }
 
 CLASSES = {
     "shares.Share": "(top, bottom=1)",
     "clauses.Clause": "(*literals)",
+    "turnings.Turning": "(*names)",
+    "books.Book": "(*clauses)",
 }
 
 METHODS = {
     "shares.Share": "add radd sub rsub mul rmul floordiv rfloordiv neg abs bool eq lt le gt ge str",
     "clauses.Clause": "iter len contains eq lt le or and sub str",
+    "turnings.Turning": "iter len contains getitem eq lt le gt ge xor and or sub str call",
+    "books.Book": "iter len contains getitem setitem eq iadd isub add xor ixor",
 }
 
 PLAIN_METHODS = {
     "shares.Share": {"over": "(self, other)"},
     "clauses.Clause": {},
+    "turnings.Turning": {"says_yes": "(self, literal)", "suits": "(self, clause)", "apart": "(self, other)"},
+    "books.Book": {"put": "(self, clause)", "drop": "(self, number)", "copy": "(self)"},
 }
 
-STATIC_METHODS = {"shares.Share": {"read": "(text)"}}
-CLASS_METHODS = {}
-PROPERTIES = {"clauses.Clause": ["names", "positives"]}
-CLASS_VALUES = {"clauses.Clause": {"LIMIT": 6}}
+STATIC_METHODS = {
+    "shares.Share": {"read": "(text)"},
+    "turnings.Turning": {"median": "(one, two, three)"},
+}
+CLASS_METHODS = {"books.Book": {"numbered": "(cls, pairs)"}}
+PROPERTIES = {
+    "clauses.Clause": ["names", "positives"],
+    "books.Book": ["names", "next_number"],
+}
+CLASS_VALUES = {
+    "clauses.Clause": {"LIMIT": 6},
+    "turnings.Turning": {"LIMIT": 12},
+    "books.Book": {"LIMIT": 24, "NAMES": 12, "NUMBERS": 999},
+}
 
 
 def module_of(word):

@@ -170,7 +170,7 @@ class ComparisonTest(ShareCase):
 
     def test_other_values_are_not_compared(self):
         for sign in (operator.lt, operator.le, operator.gt, operator.ge):
-            for value in ("1", None, (1, 2)):
+            for value in ("1", None, (1, 2), True):
                 self.assertRaises(TypeError, sign, Share(1), value)
                 self.assertRaises(TypeError, sign, value, Share(1))
 

@@ -1,0 +1,63 @@
+"""Needs: which literals a yes to a literal brings with it, and the chains of such needs."""
+
+from renamedhorn.literals import check_literal, in_order, negated
+
+
+def needs(book, literal):
+    """The needs of a literal, as pairs of a number and a literal."""
+    check_literal(literal)
+    return [
+        (number, negated(other))
+        for number in book
+        if literal in book[number]
+        for other in book[number]
+        if other != literal
+    ]
+
+
+def _arrivals(book, start):
+    """For each literal that chains from the start reach, the last link of a shortest one."""
+    arrivals = {start: None}
+    edge = [start]
+    while edge:
+        fresh = []
+        for literal in edge:
+            for number, needed in needs(book, literal):
+                if needed not in arrivals:
+                    arrivals[needed] = (literal, number, needed)
+                    fresh.append(needed)
+        edge = fresh
+    return arrivals
+
+
+def reach(book, literal):
+    """All literals to which there is a chain from a literal, itself included, in literal order."""
+    check_literal(literal)
+    return in_order(list(_arrivals(book, literal)))
+
+
+def chain(book, start, goal):
+    """A shortest chain from a start to a goal, or None if there is none."""
+    check_literal(start)
+    check_literal(goal)
+    arrivals = _arrivals(book, start)
+    if goal not in arrivals:
+        return None
+    backwards = []
+    link = arrivals[goal]
+    while link is not None:
+        backwards.append(link)
+        link = arrivals[link[0]]
+    return backwards[::-1]
+
+
+def is_chain(book, start, goal, links):
+    """Tell whether links are a chain from a start to a goal in a book."""
+    check_literal(start)
+    check_literal(goal)
+    end = start
+    for literal, number, needed in links:
+        if literal != end or (number, needed) not in needs(book, end):
+            return False
+        end = needed
+    return end == goal
