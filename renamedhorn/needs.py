@@ -18,15 +18,16 @@ def needs(book, literal):
 def _arrivals(book, start):
     """For each literal that chains from the start reach, the last link of a shortest one."""
     arrivals = {start: None}
-    edge = [start]
-    while edge:
-        fresh = []
-        for literal in edge:
-            for number, needed in needs(book, literal):
-                if needed not in arrivals:
-                    arrivals[needed] = (literal, number, needed)
-                    fresh.append(needed)
-        edge = fresh
+    waiting = [start]
+    done = 0
+    # Each literal is taken once, in the order of arrival, so the list may grow at its end meanwhile.
+    while done < len(waiting):
+        literal = waiting[done]
+        done = done + 1
+        for number, needed in needs(book, literal):
+            if needed not in arrivals:
+                arrivals[needed] = (literal, number, needed)
+                waiting.append(needed)
     return arrivals
 
 

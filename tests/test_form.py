@@ -16,6 +16,73 @@ LIBRARY = {
 }
 DECORATORS = {"property", "staticmethod", "classmethod"}
 BARRED = (ast.Import, ast.Global, ast.AsyncFunctionDef, ast.Await, ast.Div)
+CHANGERS = {"append", "clear", "extend", "insert", "pop", "remove", "reverse", "setdefault", "sort", "update"}
+VIEWS = {"items", "keys", "values"}
+COMPREHENSIONS = (ast.ListComp, ast.SetComp, ast.DictComp, ast.GeneratorExp)
+
+
+def place(node):
+    """The text of a name or an attribute, or None for anything else."""
+    return ast.unparse(node) if isinstance(node, (ast.Name, ast.Attribute)) else None
+
+
+def walked(node):
+    """The places whose contents a loop over the node goes through."""
+    if isinstance(node, ast.Call):
+        if isinstance(node.func, ast.Attribute) and node.func.attr in VIEWS:
+            return walked(node.func.value)
+        if isinstance(node.func, ast.Name) and node.func.id in ("enumerate", "zip", "reversed"):
+            return {found for part in node.args for found in walked(part)}
+        return set()
+    if isinstance(node, ast.IfExp):
+        return walked(node.body) | walked(node.orelse)
+    if isinstance(node, ast.BoolOp):
+        return {found for part in node.values for found in walked(part)}
+    return {place(node)} - {None}
+
+
+def changed(node):
+    """The places whose contents the node itself changes."""
+    if isinstance(node, ast.Call) and isinstance(node.func, ast.Attribute) and node.func.attr in CHANGERS:
+        return {place(node.func.value)}
+    if isinstance(node, ast.AugAssign):
+        return {place(node.target), place(getattr(node.target, "value", None))}
+    if isinstance(node, (ast.Assign, ast.Delete)):
+        return {place(target.value) for target in node.targets if isinstance(target, ast.Subscript)}
+    return set()
+
+
+def namesakes(function, places):
+    """The places of a function that may be the same object as one of the places, by plain assignments."""
+    pairs = [
+        (place(target), place(node.value))
+        for node in ast.walk(function)
+        if isinstance(node, ast.Assign)
+        for target in node.targets
+        if place(target) and place(node.value)
+    ]
+    found = set(places)
+    while any((one in found) != (other in found) for one, other in pairs):
+        found |= {name for pair in pairs if found & set(pair) for name in pair}
+    return found
+
+
+def changed_while_walked(function):
+    """The lines of a function at which a loop changes what it goes through, also by another name."""
+    loops = [(node.iter, node.body, node) for node in ast.walk(function) if isinstance(node, ast.For)]
+    loops += [
+        (part.iter, [node], node)
+        for node in ast.walk(function)
+        if isinstance(node, COMPREHENSIONS)
+        for part in node.generators
+    ]
+    return [
+        inner.lineno
+        for over, body, node in loops
+        for row in body
+        for inner in ast.walk(row)
+        if (changed(inner) - {None}) & namesakes(function, walked(over))
+    ]
 
 
 class FormTest(unittest.TestCase):
@@ -52,6 +119,28 @@ class FormTest(unittest.TestCase):
         if isinstance(node, ast.Constant):
             self.assertNotIsInstance(node.value, float)
             self.assertNotIn("%", str(node.value))
+
+    def test_no_loop_changes_what_it_walks(self):
+        for path in FILES:
+            for node in ast.walk(ast.parse(path.read_text(encoding="utf-8"))):
+                if isinstance(node, ast.FunctionDef):
+                    with self.subTest(file=path.name, function=node.name):
+                        self.assertEqual(changed_while_walked(node), [])
+
+    def test_what_the_test_of_loops_sees(self):
+        for text in (
+            "for x in xs:\n  xs.append(x)",
+            "for x in xs:\n  ys.append(x)\nxs = ys",
+            "zs = xs\nfor x in enumerate(xs):\n  for y in x:\n    zs[0] = y",
+            "for x in d.items():\n  del d[x]",
+            "for x in a or b:\n  b.pop()",
+            "ys = [xs.pop() for x in xs]",
+        ):
+            function = ast.parse("def f(xs):\n  " + text.replace("\n", "\n  "))
+            self.assertNotEqual(changed_while_walked(function), [], text)
+        for text in ("for x in xs:\n  ys.append(x)", "for x in list(xs):\n  xs.pop()", "for x in xs:\n  xs = [x]"):
+            function = ast.parse("def f(xs):\n  " + text.replace("\n", "\n  "))
+            self.assertEqual(changed_while_walked(function), [], text)
 
     def look_at_import(self, node):
         """Assert that an import names a file of the package or a permitted word of the library."""
