@@ -56,12 +56,12 @@ def names_in_order(names):
     return sorted(set(names))
 
 
+def both_signs(names):
+    """Both literals of each name, the positive one first."""
+    return [literal for name in names for literal in (name, f"-{name}")]
+
+
 def in_order(literals):
     """The different literals of a list, in literal order."""
     names = [name_of(literal) for literal in literals]
-    return [
-        literal
-        for name in sorted(set(names))
-        for literal in (name, f"-{name}")
-        if literal in literals
-    ]
+    return [literal for literal in both_signs(sorted(set(names))) if literal in literals]

@@ -1,6 +1,15 @@
 """What all tests of the project share."""
 
+import itertools
+import random
 import unittest
+
+from renamedhorn.books import Book
+from renamedhorn.clauses import Clause
+
+TWELVE = list("abcdefghijkl")
+NO_NAMES = ["", "-", "-a", "A", "a b", "1a", "a_", "abcdefghi", "name_of_nine", "a\n"]
+NO_LITERALS = ["", "-", "--a", "A", "-A", "a b", "a | b", "0", "-1a", "abcdefghi", "-abcdefghi"]
 
 
 class Case(unittest.TestCase):
@@ -22,3 +31,69 @@ class Case(unittest.TestCase):
         self.assertIs(rows[0] <= rows[1], low <= high)
         self.assertIs(rows[0] > rows[1], low > high)
         self.assertIs(rows[0] >= rows[1], low >= high)
+
+
+def opposite(literal):
+    """The literal of the same name and the other sign."""
+    return literal[1:] if literal.startswith("-") else "-" + literal
+
+
+def both(names):
+    """All literals of the names, in literal order."""
+    return [sign + name for name in names for sign in ("", "-")]
+
+
+def subsets(names):
+    """All sets of the names as tuples, those of turnings in turning order."""
+    rows = itertools.product([False, True], repeat=len(names))
+    return [tuple(name for name, kept in zip(names, row) if kept) for row in rows]
+
+
+def says_yes(turned, literal):
+    """Tell whether the turning of the names says yes to a literal."""
+    return literal.startswith("-") == (literal.removeprefix("-") in turned)
+
+
+def suits(turned, book):
+    """Tell whether the turning of the names suits all clauses of a book."""
+    return all(len([part for part in book[number] if says_yes(turned, part)]) <= 1 for number in book)
+
+
+def suiting(book):
+    """The sets of names of a book whose turnings suit it, in turning order."""
+    return [turned for turned in subsets(book.names) if suits(turned, book)]
+
+
+def choices(names):
+    """All choices over the names as tuples of literals, in the order of models."""
+    return list(itertools.product(*[(name, "-" + name) for name in names]))
+
+
+def holds(choice, book):
+    """Tell whether a choice has a literal of each clause of a book."""
+    return all(any(part in choice for part in book[number]) for number in book)
+
+
+def drawn_clause(draw, names, sizes):
+    """A drawn clause over some names with a drawn one of the sizes."""
+    chosen = draw.sample(names, min(draw.choice(sizes), len(names)))
+    return Clause(*[draw.choice(["", "-"]) + name for name in chosen])
+
+
+def drawn_books(seed, many, names, clauses, sizes):
+    """Books of drawn clauses, always the same ones for a seed; some have gaps in their numbers."""
+    draw = random.Random(seed)
+    books = []
+    for _ in range(many):
+        book = Book()
+        for _ in range(draw.randint(0, clauses)):
+            book += drawn_clause(draw, names, sizes)
+            if draw.random() < 0.1:
+                book -= book.next_number - 1
+        books.append(book)
+    return books
+
+
+def state(book):
+    """All that can be told of a book."""
+    return [(number, str(book[number])) for number in book], book.names, book.next_number, len(book)

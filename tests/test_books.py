@@ -2,7 +2,7 @@
 
 import operator
 
-from helper import Case
+from helper import Case, state
 from renamedhorn.books import Book
 from renamedhorn.clauses import Clause
 from renamedhorn.errors import BadNumber, NoClause, TooMany
@@ -11,11 +11,6 @@ from renamedhorn.turnings import Turning
 SIX = Clause("a", "b", "c", "d", "e", "f")
 OTHER_SIX = Clause("g", "h", "i", "j", "k", "l")
 NO_NUMBERS = [0, -1, -999, 2, 7, 1000, 10 ** 30]
-
-
-def state(book):
-    """All that can be told of a book."""
-    return [(number, str(book[number])) for number in book], book.names, book.next_number, len(book)
 
 
 def gapped():

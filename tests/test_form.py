@@ -1,6 +1,7 @@
 """The form of the code, as far as it is plain to see: sizes, signs, imports and statements."""
 
 import ast
+import builtins
 import pathlib
 import unittest
 
@@ -15,10 +16,38 @@ LIBRARY = {
     "collections": {"defaultdict"},
 }
 DECORATORS = {"property", "staticmethod", "classmethod"}
-BARRED = (ast.Import, ast.Global, ast.AsyncFunctionDef, ast.Await, ast.Div)
+BARRED = (
+    ast.Import, ast.Global, ast.AsyncFunctionDef, ast.Await, ast.Div, ast.GeneratorExp, ast.AugAssign, ast.AnnAssign,
+    ast.Lambda,
+)
+BUILTINS = set(
+    "len range enumerate zip min max sum abs sorted reversed int str bool list tuple dict set isinstance ord repr"
+    " any all divmod iter super property staticmethod classmethod ValueError TypeError NotImplemented".split()
+)
+PLAIN_NUMBERS = {"int", "len", "ord", "abs"}
 CHANGERS = {"append", "clear", "extend", "insert", "pop", "remove", "reverse", "setdefault", "sort", "update"}
 VIEWS = {"items", "keys", "values"}
 COMPREHENSIONS = (ast.ListComp, ast.SetComp, ast.DictComp, ast.GeneratorExp)
+
+
+def plain_numbers(node):
+    """Tell whether a node is plainly a number, or a list of such."""
+    if isinstance(node, ast.ListComp):
+        return plain_numbers(node.elt)
+    if isinstance(node, ast.Call):
+        return isinstance(node.func, ast.Name) and node.func.id in PLAIN_NUMBERS
+    return isinstance(node, ast.Constant) and isinstance(node.value, int)
+
+
+def bound_names(tree):
+    """All names that a file gives a meaning by assignments, loops, parameters, functions and classes."""
+    for node in ast.walk(tree):
+        if isinstance(node, ast.Name) and isinstance(node.ctx, ast.Store):
+            yield node.id
+        if isinstance(node, ast.arg):
+            yield node.arg
+        if isinstance(node, (ast.FunctionDef, ast.ClassDef)):
+            yield node.name
 
 
 def place(node):
@@ -116,9 +145,30 @@ class FormTest(unittest.TestCase):
             for over in node.decorator_list:
                 word = over.attr if isinstance(over, ast.Attribute) else over.id
                 self.assertIn(word, DECORATORS | {"setter"})
+        if isinstance(node, ast.Starred):
+            self.assertIsInstance(node.value, (ast.Name, ast.Attribute))
         if isinstance(node, ast.Constant):
             self.assertNotIsInstance(node.value, float)
             self.assertNotIn("%", str(node.value))
+
+    def test_builtins(self):
+        for path in FILES:
+            tree = ast.parse(path.read_text(encoding="utf-8"))
+            for name in bound_names(tree):
+                self.assertNotIn(name, dir(builtins), path.name)
+            for node in ast.walk(tree):
+                if isinstance(node, ast.Name) and node.id in dir(builtins):
+                    self.assertIn(node.id, BUILTINS, path.name)
+                if isinstance(node, ast.Call) and isinstance(node.func, ast.Name):
+                    with self.subTest(file=path.name, line=node.lineno):
+                        self.look_at_call(node.func.id, node.args)
+
+    def look_at_call(self, word, args):
+        """Assert that what has an order of its own is not sorted or compared by a builtin."""
+        if word == "sorted":
+            self.assertEqual([ast.unparse(part.func) for part in args], ["set"])
+        if word in ("min", "max"):
+            self.assertTrue(any(plain_numbers(part) for part in args))
 
     def test_no_loop_changes_what_it_walks(self):
         for path in FILES:

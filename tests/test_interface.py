@@ -29,6 +29,16 @@ FUNCTIONS = {
         "chain": "(book, start, goal)",
         "is_chain": "(book, start, goal, links)",
     },
+    "rings": {
+        "ring_names": "(book)",
+        "ring_at": "(book, name)",
+        "first_ring": "(book)",
+        "apart_rings": "(book)",
+    },
+    "products": {
+        "all_turnings": "(book)",
+        "parted": "(one, other)",
+    },
 }
 
 CLASSES = {
@@ -36,6 +46,9 @@ CLASSES = {
     "clauses.Clause": "(*literals)",
     "turnings.Turning": "(*names)",
     "books.Book": "(*clauses)",
+    "rings.Ring": "(name, there, back)",
+    "weights.Weights": "(**shares)",
+    "mixtures.Mixture": "(*numbers)",
 }
 
 METHODS = {
@@ -43,6 +56,9 @@ METHODS = {
     "clauses.Clause": "iter len contains eq lt le or and sub str",
     "turnings.Turning": "iter len contains getitem eq lt le gt ge xor and or sub str call",
     "books.Book": "iter len contains getitem setitem eq iadd isub add xor ixor",
+    "products.Product": "contains bool getitem eq lt le and or mul",
+    "weights.Weights": "iter len contains eq getitem setitem call",
+    "mixtures.Mixture": "iter len contains eq getitem setitem add iadd mul rmul",
 }
 
 PLAIN_METHODS = {
@@ -50,21 +66,56 @@ PLAIN_METHODS = {
     "clauses.Clause": {},
     "turnings.Turning": {"says_yes": "(self, literal)", "suits": "(self, clause)", "apart": "(self, other)"},
     "books.Book": {"put": "(self, clause)", "drop": "(self, number)", "copy": "(self)"},
+    "rings.Ring": {"bars": "(self, book)"},
+    "products.Product": {
+        "walk": "(self)",
+        "place_of": "(self, turning)",
+        "saying": "(self, *literals)",
+        "together": "(self, *literals)",
+        "onto": "(self, *names)",
+        "side": "(self, name)",
+        "factors": "(self)",
+        "moved": "(self, turning, *literals)",
+    },
+    "weights.Weights": {
+        "most": "(self, book)",
+        "fits": "(self, book)",
+        "rounded": "(self)",
+        "halves": "(self)",
+        "as_turning": "(self)",
+    },
+    "mixtures.Mixture": {
+        "load": "(self, book, literal)",
+        "least": "(self, book)",
+        "excess": "(self, book)",
+        "bars": "(self, book)",
+        "bound": "(self, book)",
+    },
 }
 
 STATIC_METHODS = {
     "shares.Share": {"read": "(text)"},
     "turnings.Turning": {"median": "(one, two, three)"},
+    "weights.Weights": {"of": "(turning, names)"},
 }
-CLASS_METHODS = {"books.Book": {"numbered": "(cls, pairs)"}}
+CLASS_METHODS = {
+    "books.Book": {"numbered": "(cls, pairs)"},
+    "products.Product": {"free": "(cls, *names)", "hull": "(cls, names, turnings)"},
+}
 PROPERTIES = {
     "clauses.Clause": ["names", "positives"],
     "books.Book": ["names", "next_number"],
+    "rings.Ring": ["numbers"],
+    "products.Product": ["names", "many"],
+    "mixtures.Mixture": ["total"],
 }
 CLASS_VALUES = {
     "clauses.Clause": {"LIMIT": 6},
     "turnings.Turning": {"LIMIT": 12},
     "books.Book": {"LIMIT": 24, "NAMES": 12, "NUMBERS": 999},
+    "products.Product": {"LIMIT": 12},
+    "weights.Weights": {"LIMIT": 12},
+    "mixtures.Mixture": {"LIMIT": 1000000},
 }
 
 
