@@ -28,6 +28,12 @@ def turned_in(names, code):
     return [name for name in names if code & _bit(names, name)]
 
 
+def literals_in(names, code):
+    """The literals for which a code stands, in the order of the names."""
+    turned = turned_in(names, code)
+    return [f"-{name}" if name in turned else name for name in names]
+
+
 def recoded(names, codes, wanted):
     """Codes over names, each as a code over the wanted names; bits of further names are 0."""
     pairs = [(_bit(names, name), _bit(wanted, name)) for name in names if name in wanted]
@@ -35,7 +41,7 @@ def recoded(names, codes, wanted):
 
 
 def bits_of(names, literals):
-    """The bits that are 0, and those that are 1, in each code that has all the literals."""
+    """The bits that are 0, and those that are 1, in each code that has all literals of the names."""
     plain = [literal for literal in literals if is_positive(literal)]
     turned = [name_of(literal) for literal in literals if not is_positive(literal)]
     return code_of(names, plain), code_of(names, turned)
@@ -53,7 +59,7 @@ def lacking(codes, bits):
     return [code for code in codes if code & zeros != 0 or code & ones != ones]
 
 
-def bound(codes, when, then):
+def bonded(codes, when, then):
     """The codes that have the bits of the second pair if they have those of the first one."""
     zeros, ones = when
     more_zeros, more_ones = then
@@ -75,15 +81,21 @@ def common_bits(names, codes):
     return zeros, ones
 
 
+def common_literals(names, codes):
+    """The literals that all codes have; without codes that is each literal."""
+    zeros, ones = common_bits(names, codes)
+    return turned_in(names, zeros) + [f"-{name}" for name in turned_in(names, ones)]
+
+
 def by_needs(names, needed):
     """The codes over names that have no literal without all the literals that it needs."""
     codes = all_codes(names)
     for literal, others in needed.items():
-        codes = bound(codes, bits_of(names, [literal]), bits_of(names, others))
+        codes = bonded(codes, bits_of(names, [literal]), bits_of(names, others))
     return codes
 
 
-def closed(names, codes):
+def closure(names, codes):
     """The codes of the least set that holds these and the median of each three that it holds."""
     if not codes:
         return []
@@ -91,7 +103,7 @@ def closed(names, codes):
     # Such a set is determined by the pairs of literals that its codes have together.
     for literal in both_signs(names):
         own = bits_of(names, [literal])
-        found = bound(found, own, common_bits(names, having(codes, own)))
+        found = bonded(found, own, common_bits(names, having(codes, own)))
     return found
 
 
@@ -116,10 +128,9 @@ def _tied_to(ties, start):
     part = [start]
     done = 0
     while done < len(part):
-        for name in ties[part[done]]:
-            if name not in part:
-                part.append(name)
+        tied = ties[part[done]]
         done = done + 1
+        part = part + [name for name in tied if name not in part]
     return part
 
 

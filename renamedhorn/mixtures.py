@@ -1,7 +1,7 @@
 """Mixtures: counts of clause numbers, and the bounds that they give."""
 
 from renamedhorn.books import Book
-from renamedhorn.errors import BadCount, BadNumber, NoClause
+from renamedhorn.errors import BadCount, BadNumber
 from renamedhorn.literals import check_literal, negated
 from renamedhorn.shares import Share
 
@@ -51,16 +51,14 @@ def _mixture_of(counts):
     return mixture
 
 
-def _load(counts, book, literal):
-    """The sum of the counts of the clauses that have a literal."""
-    return sum([count for number, count in counts.items() if literal in book[number]])
+def _counted_clauses(counts, book):
+    """The clauses of a book at the numbers that have a count, as pairs of the count and the clause."""
+    return [(count, book[number]) for number, count in counts.items()]
 
 
-def _check_clauses(counts, book):
-    """Raise NoClause for the first number that has a count but no clause in the book."""
-    for number in counts:
-        if number not in book:
-            raise NoClause(number)
+def _load(counted, literal):
+    """The sum of the counts of those clauses that have a literal."""
+    return sum([count for count, clause in counted if literal in clause])
 
 
 class Mixture:
@@ -85,16 +83,12 @@ class Mixture:
     def load(self, book, literal):
         """The sum of the counts of the clauses of a book that have a literal."""
         check_literal(literal)
-        _check_clauses(self._counts, book)
-        return _load(self._counts, book, literal)
+        return _load(_counted_clauses(self._counts, book), literal)
 
     def least(self, book):
         """The sum, over the names of a book, of the lesser of the loads of both literals."""
-        _check_clauses(self._counts, book)
-        return sum([
-            min(int(_load(self._counts, book, name)), int(_load(self._counts, book, negated(name))))
-            for name in book.names
-        ])
+        counted = _counted_clauses(self._counts, book)
+        return sum([min(int(_load(counted, name)), int(_load(counted, negated(name)))) for name in book.names])
 
     def excess(self, book):
         """By how much the sum of the lesser loads is above the total."""

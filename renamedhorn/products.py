@@ -1,10 +1,10 @@
 """Products: sets of turnings of some names that hold the median of each three that they hold."""
 
 from renamedhorn.codes import (
-    all_codes, apart_parts, bits_of, by_needs, closed, code_of, common_bits, having, recoded, turned_in,
+    all_codes, apart_parts, bits_of, by_needs, closure, code_of, common_bits, having, recoded, turned_in,
 )
 from renamedhorn.errors import NoName, NoPlace, NoTurning, OtherNames, SharedName, TooMany
-from renamedhorn.literals import check_literal, check_name, name_of, names_in_order
+from renamedhorn.literals import check_name, name_of, names_in_order
 from renamedhorn.needs import all_needs
 from renamedhorn.turnings import Turning
 
@@ -52,8 +52,6 @@ def _code_held(product, turning):
 
 def _codes_saying(product, literals):
     """The codes of the turnings of a product that say yes to all literals."""
-    for literal in literals:
-        check_literal(literal)
     _check_known(product._names, [name_of(literal) for literal in literals])
     return having(product._codes, bits_of(product._names, literals))
 
@@ -93,7 +91,7 @@ class Product:
         ordered = _limited(names)
         for turning in turnings:
             _check_known(ordered, turning.turned)
-        return cls(ordered, closed(ordered, [code_of(ordered, turning.turned) for turning in turnings]))
+        return cls(ordered, closure(ordered, [code_of(ordered, turning.turned) for turning in turnings]))
 
     @property
     def names(self):
@@ -191,7 +189,7 @@ class Product:
 
     def __or__(self, other):
         _check_same_names(self, other)
-        return Product(self._names, closed(self._names, self._codes + other._codes))
+        return Product(self._names, closure(self._names, self._codes + other._codes))
 
     def __mul__(self, other):
         for name in self._names:

@@ -6,8 +6,10 @@ import unittest
 
 from renamedhorn.books import Book
 from renamedhorn.clauses import Clause
+from renamedhorn.errors import BadLiteral, BothSigns, TooMany
 
 TWELVE = list("abcdefghijkl")
+THIRTEEN = [*TWELVE, "m"]
 NO_NAMES = ["", "-", "-a", "A", "a b", "1a", "a_", "abcdefghi", "name_of_nine", "a\n"]
 NO_LITERALS = ["", "-", "--a", "A", "-A", "a b", "a | b", "0", "-1a", "abcdefghi", "-abcdefghi"]
 
@@ -31,6 +33,17 @@ class Case(unittest.TestCase):
         self.assertIs(rows[0] <= rows[1], low <= high)
         self.assertIs(rows[0] > rows[1], low > high)
         self.assertIs(rows[0] >= rows[1], low >= high)
+
+    def facts_are_checked(self, call):
+        """Assert that a call of facts raises the errors of the facts in their order."""
+        for kind in (list, tuple):
+            for text in NO_LITERALS:
+                self.refused(BadLiteral, call, kind(["a", text, "B"]), text=text)
+                self.refused(BadLiteral, call, kind(["a", "-a", *THIRTEEN, text]), text=text)
+            self.refused(BothSigns, call, kind(["c", "-b", "a", "-c", "b"]), name="b")
+            self.refused(BothSigns, call, kind([*THIRTEEN, "-m"]), name="m")
+            self.refused(TooMany, call, kind(THIRTEEN), limit=12)
+            self.refused(TooMany, call, kind(["-" + name for name in [*THIRTEEN, "n"]]), limit=12)
 
 
 def opposite(literal):
@@ -64,6 +77,25 @@ def suiting(book):
     return [turned for turned in subsets(book.names) if suits(turned, book)]
 
 
+def distances(book):
+    """For each pair of literals of a book with a chain between them, its least number of links."""
+    links = {
+        (one, opposite(other))
+        for number in book
+        for one in book[number]
+        for other in book[number]
+        if one != other
+    }
+    found = {(literal, literal): 0 for literal in both(book.names)}
+    for length in range(1, 24):
+        edge = [pair for pair, known in found.items() if known == length - 1]
+        for start, middle in edge:
+            for one, end in links:
+                if one == middle:
+                    found.setdefault((start, end), length)
+    return found
+
+
 def choices(names):
     """All choices over the names as tuples of literals, in the order of models."""
     return list(itertools.product(*[(name, "-" + name) for name in names]))
@@ -91,6 +123,30 @@ def drawn_books(seed, many, names, clauses, sizes):
             if draw.random() < 0.1:
                 book -= book.next_number - 1
         books.append(book)
+    return books
+
+
+def drawn_facts(draw, names, most):
+    """A list of facts of different names of these and of two others."""
+    names = [*names, "x9", "y9"]
+    return [draw.choice(["", "-"]) + name for name in draw.sample(names, draw.randint(0, min(most, len(names))))]
+
+
+def drawn_halved_books(seed, many):
+    """Books with ring names of which no clause has three, many of them with other names as well."""
+    draw = random.Random(seed)
+    books = []
+    while len(books) < many:
+        clauses = [drawn_clause(draw, TWELVE[:4], [2]) for _ in range(draw.randint(4, 9))]
+        # Of the names w to z each clause has at most one positive literal, and none beside a ring name.
+        for _ in range(draw.randint(0, 4)):
+            chosen = ["-" + name for name in draw.sample("wxyz", draw.randint(1, 3))]
+            more = draw.choice([[chosen.pop()[1:]], [draw.choice(["a", "-b"])], ["c", "-d"], []])
+            clauses.append(Clause(*chosen, *more))
+        draw.shuffle(clauses)
+        book = Book(*clauses)
+        if not suiting(book):
+            books.append(book)
     return books
 
 

@@ -25,6 +25,14 @@ BUILTINS = set(
     " any all divmod iter super property staticmethod classmethod ValueError TypeError NotImplemented".split()
 )
 PLAIN_NUMBERS = {"int", "len", "ord", "abs"}
+LOUD = {"__init__", "__call__", "__setitem__", "__iadd__", "__isub__", "__ixor__"}
+NEW = {"list", "dict", "sorted"}
+OWN_CLASSES = {
+    node.name
+    for path in FILES
+    for node in ast.parse(path.read_text(encoding="utf-8")).body
+    if isinstance(node, ast.ClassDef)
+}
 CHANGERS = {"append", "clear", "extend", "insert", "pop", "remove", "reverse", "setdefault", "sort", "update"}
 VIEWS = {"items", "keys", "values"}
 COMPREHENSIONS = (ast.ListComp, ast.SetComp, ast.DictComp, ast.GeneratorExp)
@@ -48,6 +56,26 @@ def bound_names(tree):
             yield node.arg
         if isinstance(node, (ast.FunctionDef, ast.ClassDef)):
             yield node.name
+
+
+def taken_names(tree):
+    """The names of the classes and the imports of a file."""
+    for node in tree.body:
+        if isinstance(node, ast.ClassDef):
+            yield node.name
+        if isinstance(node, ast.ImportFrom):
+            yield from [alias.name for alias in node.names]
+
+
+def local_names(tree):
+    """The names of parameters and of variables that functions assign."""
+    for function in ast.walk(tree):
+        if isinstance(function, ast.FunctionDef):
+            for node in ast.walk(function):
+                if isinstance(node, ast.Name) and isinstance(node.ctx, ast.Store):
+                    yield node.id
+                if isinstance(node, ast.arg):
+                    yield node.arg
 
 
 def place(node):
@@ -114,6 +142,62 @@ def changed_while_walked(function):
     ]
 
 
+def own_functions():
+    """All functions and methods of the package by their names; a class is there by its name as well."""
+    found = {}
+    for path in FILES:
+        for node in ast.walk(ast.parse(path.read_text(encoding="utf-8"))):
+            if isinstance(node, ast.FunctionDef):
+                found.setdefault(node.name, []).append(node)
+            if isinstance(node, ast.ClassDef):
+                made = [row for row in node.body if isinstance(row, ast.FunctionDef) and row.name == "__init__"]
+                found.setdefault(node.name, []).extend(made)
+    return found
+
+
+def is_quiet(function):
+    """Tell whether a function is an operator or a property that changes nothing."""
+    if function.name.startswith("__") and function.name not in LOUD:
+        return True
+    return "property" in [ast.unparse(over) for over in function.decorator_list]
+
+
+def called_names(function):
+    """The names of the functions and methods that a function calls."""
+    calls = [node.func for node in ast.walk(function) if isinstance(node, ast.Call)]
+    return [func.id if isinstance(func, ast.Name) else func.attr for func in calls]
+
+
+def quiet_functions():
+    """The operators, the properties and all functions and methods that they call, by name."""
+    known = own_functions()
+    found = [function for rows in known.values() for function in rows if is_quiet(function)]
+    done = 0
+    while done < len(found):
+        for name in called_names(found[done]):
+            found.extend([function for function in known.get(name, []) if function not in found])
+        done += 1
+    return found
+
+
+def made_here(function):
+    """The local names that a function assigns only new lists and dicts, and those of new objects."""
+    values = {}
+    for node in ast.walk(function):
+        if isinstance(node, ast.Assign):
+            for target in node.targets:
+                values.setdefault(place(target), []).append(node.value)
+    return [
+        name
+        for name, rows in values.items()
+        if all(
+            isinstance(row, (ast.List, ast.Dict, ast.ListComp, ast.DictComp))
+            or isinstance(row, ast.Call) and isinstance(row.func, ast.Name) and row.func.id in NEW | OWN_CLASSES
+            for row in rows
+        )
+    ]
+
+
 class FormTest(unittest.TestCase):
     def test_the_folder_holds_only_files_of_the_package(self):
         found = [path.name for path in PACKAGE.iterdir() if path.name != "__pycache__"]
@@ -169,6 +253,25 @@ class FormTest(unittest.TestCase):
             self.assertEqual([ast.unparse(part.func) for part in args], ["set"])
         if word in ("min", "max"):
             self.assertTrue(any(plain_numbers(part) for part in args))
+
+    def test_locals_do_not_hide_classes_and_imports(self):
+        for path in FILES:
+            tree = ast.parse(path.read_text(encoding="utf-8"))
+            self.assertEqual(set(local_names(tree)) & set(taken_names(tree)), set(), path.name)
+
+    def test_operators_and_properties_change_nothing(self):
+        quiet = quiet_functions()
+        self.assertGreater(len(quiet), 60)
+        for function in quiet:
+            made = made_here(function) + (["self"] if function.name == "__init__" else [])
+            with self.subTest(function=function.name, line=function.lineno):
+                for node in ast.walk(function):
+                    self.assertNotIsInstance(node, (ast.Yield, ast.YieldFrom))
+                    for name in changed(node) - {None}:
+                        self.assertIn(name, made)
+                    if isinstance(node, ast.Attribute) and isinstance(node.ctx, ast.Store):
+                        self.assertIn(place(node.value), made)
+                self.assertEqual(set(called_names(function)) & set(local_names(function)), set())
 
     def test_no_loop_changes_what_it_walks(self):
         for path in FILES:

@@ -39,6 +39,24 @@ FUNCTIONS = {
         "all_turnings": "(book)",
         "parted": "(one, other)",
     },
+    "standings": {
+        "sides": "(book)",
+        "standing": "(book)",
+    },
+    "values": {
+        "game_value": "(book)",
+    },
+    "following": {
+        "follow": "(book, facts=())",
+        "following": "(book, facts=())",
+        "rest": "(book, trail)",
+    },
+    "settling": {
+        "settle": "(book, facts=())",
+        "can_hold": "(book, facts=())",
+        "settled": "(book, facts=())",
+        "models": "(book, facts=())",
+    },
 }
 
 CLASSES = {
@@ -49,7 +67,11 @@ CLASSES = {
     "rings.Ring": "(name, there, back)",
     "weights.Weights": "(**shares)",
     "mixtures.Mixture": "(*numbers)",
+    "refutations.Refutation": "(steps, name=None, when=None, unless=None)",
 }
+
+# Classes of which the interface does not say how their objects are made.
+RESULTS = ["products.Product", "standings.Standing", "values.GameValue", "following.Trail", "settling.Answer"]
 
 METHODS = {
     "shares.Share": "add radd sub rsub mul rmul floordiv rfloordiv neg abs bool eq lt le gt ge str",
@@ -59,6 +81,7 @@ METHODS = {
     "products.Product": "contains bool getitem eq lt le and or mul",
     "weights.Weights": "iter len contains eq getitem setitem call",
     "mixtures.Mixture": "iter len contains eq getitem setitem add iadd mul rmul",
+    "following.Trail": "iter len contains",
 }
 
 PLAIN_METHODS = {
@@ -91,6 +114,8 @@ PLAIN_METHODS = {
         "bars": "(self, book)",
         "bound": "(self, book)",
     },
+    "following.Trail": {"why": "(self, literal)"},
+    "refutations.Refutation": {"refutes": "(self, book, facts=())"},
 }
 
 STATIC_METHODS = {
@@ -108,6 +133,8 @@ PROPERTIES = {
     "rings.Ring": ["numbers"],
     "products.Product": ["names", "many"],
     "mixtures.Mixture": ["total"],
+    "following.Trail": ["held"],
+    "refutations.Refutation": ["depth"],
 }
 CLASS_VALUES = {
     "clauses.Clause": {"LIMIT": 6},
@@ -145,6 +172,13 @@ class InterfaceTest(unittest.TestCase):
                 self.assertEqual(made.__module__, "renamedhorn." + word.split(".")[0])
                 self.assertIn("__init__", vars(made))
                 self.assertEqual(str(inspect.signature(made)), parameters)
+
+    def test_classes_of_results(self):
+        for word in RESULTS:
+            with self.subTest(word=word):
+                made = getattr(module_of(word), word.split(".")[1])
+                self.assertTrue(inspect.isclass(made))
+                self.assertEqual(made.__module__, "renamedhorn." + word.split(".")[0])
 
     def test_operators(self):
         for word, signs in METHODS.items():

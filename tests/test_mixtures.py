@@ -223,6 +223,8 @@ class BookTest(MixtureCase):
         mixture = Mixture(9, 5, 3, 2)
         for call in (mixture.least, mixture.excess, mixture.bars, mixture.bound):
             self.refused(NoClause, call, book, number=3)
+            self.refused(NoClause, call, Book(), number=2)
+            self.refused(NoClause, call, Book(Clause(), Clause()), number=3)
         self.refused(NoClause, mixture.load, book, "a", number=3)
         self.refused(NoClause, mixture.load, Book(), "q", number=2)
         for text in NO_LITERALS:

@@ -1,6 +1,6 @@
 """Points 29 to 31: rings."""
 
-from helper import Case, NO_NAMES, TWELVE, both, drawn_books, opposite, state, suiting
+from helper import Case, NO_NAMES, TWELVE, distances, drawn_books, state, suiting
 from renamedhorn.books import Book
 from renamedhorn.clauses import Clause
 from renamedhorn.errors import BadName
@@ -10,25 +10,6 @@ from renamedhorn.rings import Ring, apart_rings, first_ring, ring_at, ring_names
 ONE_RING = [Clause("a", "b"), Clause("a", "-b"), Clause("-a", "c"), Clause("-a", "-c")]
 THERE = [("a", 1, "-b"), ("-b", 2, "-a")]
 BACK = [("-a", 3, "-c"), ("-c", 4, "a")]
-
-
-def distances(book):
-    """For each pair of literals of a book with a chain between them, its least number of links."""
-    links = {
-        (one, opposite(other))
-        for number in book
-        for one in book[number]
-        for other in book[number]
-        if one != other
-    }
-    found = {(literal, literal): 0 for literal in both(book.names)}
-    for length in range(1, 24):
-        edge = [pair for pair, known in found.items() if known == length - 1]
-        for start, middle in edge:
-            for one, end in links:
-                if one == middle:
-                    found.setdefault((start, end), length)
-    return found
 
 
 def books():

@@ -1,0 +1,111 @@
+"""Settling: a model of a book and facts, or a refutation of them."""
+
+from renamedhorn.codes import all_codes, bits_of, common_literals, having, lacking, literals_in
+from renamedhorn.errors import NoModel
+from renamedhorn.following import checked_facts, is_broken, rows_of, steps_from
+from renamedhorn.literals import in_order, negated
+from renamedhorn.products import all_turnings
+from renamedhorn.refutations import Refutation
+
+
+class Answer:
+    """A model and None, or None and a refutation."""
+
+    def __init__(self, model, paper):
+        self.model = model
+        self.paper = paper
+
+
+def _held_after(facts, steps):
+    """The facts and what the steps hold."""
+    return list(facts) + [literal for _, literal in steps]
+
+
+def _open_names(names, held):
+    """The names of which neither literal is held."""
+    return [name for name in names if name not in held and negated(name) not in held]
+
+
+def _all_no(names, turning):
+    """The literals of the names that are a no under a turning."""
+    return [name if name in turning.turned else negated(name) for name in names]
+
+
+def _split_name(rows, held, names):
+    """The first of those names of which the most literals break the following at once."""
+    best = names[0]
+    most = 0
+    for name in names:
+        sides = [steps_from(rows, held + [literal]) for literal in (name, negated(name))]
+        many = len([steps for steps in sides if is_broken(steps)])
+        if many > most:
+            best = name
+            most = many
+    return best
+
+
+def _by_splits(rows, names, facts):
+    """The answer for rows over some names and facts, by splits at names that following leaves open."""
+    steps = steps_from(rows, facts)
+    if is_broken(steps):
+        return Answer(None, Refutation(steps))
+    held = _held_after(facts, steps)
+    left = _open_names(names, held)
+    if not left:
+        return Answer(tuple(in_order(held)), None)
+    # In a halved book without a model some name breaks at once on both sides: one split is enough.
+    name = _split_name(rows, held, left)
+    when = _by_splits(rows, names, facts + [name])
+    if when.model is not None:
+        return when
+    unless = _by_splits(rows, names, facts + [negated(name)])
+    if unless.model is not None:
+        return unless
+    return Answer(None, Refutation((), name, when.paper, unless.paper))
+
+
+def settle(book, facts=()):
+    """The answer for a book and facts: a model of them or a refutation."""
+    given = list(checked_facts(facts))
+    rows = rows_of(book)
+    turnings = all_turnings(book)
+    if turnings.many == 0:
+        return _by_splits(rows, book.names, given)
+    steps = steps_from(rows, given)
+    if is_broken(steps):
+        return Answer(None, Refutation(steps))
+    held = _held_after(given, steps)
+    model = held + _all_no(_open_names(book.names, held), turnings[0])
+    return Answer(tuple(in_order(model)), None)
+
+
+def can_hold(book, facts=()):
+    """Tell whether a book and facts have a model."""
+    return settle(book, facts).model is not None
+
+
+def _model_codes(book, given):
+    """The codes over the names of a book of its models that have the facts."""
+    names = book.names
+    codes = having(all_codes(names), bits_of(names, given))
+    for number in book:
+        codes = lacking(codes, bits_of(names, [negated(literal) for literal in book[number]]))
+    return codes
+
+
+def models(book, facts=()):
+    """Yield all models of a book and facts, in ascending order."""
+    given = checked_facts(facts)
+    names = book.names
+    for code in _model_codes(book, given):
+        yield tuple(in_order(literals_in(names, code) + list(given)))
+
+
+def settled(book, facts=()):
+    """The literals that are in every model of a book and facts, in literal order."""
+    answer = settle(book, facts)
+    if answer.model is None:
+        raise NoModel(answer.paper)
+    given = checked_facts(facts)
+    common = common_literals(book.names, _model_codes(book, given))
+    return tuple(in_order(common + list(given)))
