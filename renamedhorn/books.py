@@ -1,6 +1,6 @@
 """Books: clauses that have numbers."""
 
-from renamedhorn.errors import BadNumber, NoClause, TooMany
+from renamedhorn.errors import BadNumber, NoClause, NotSuited, TooMany
 from renamedhorn.turnings import turned_clause
 
 
@@ -144,3 +144,15 @@ class Book:
     def __ixor__(self, other):
         self._placed = _all_turned(self._placed, other)
         return self
+
+
+def unsuited(book, turning):
+    """The numbers of the clauses that a turning does not suit, in ascending order."""
+    return [number for number in book if not turning.suits(book[number])]
+
+
+def check_suited(book, turning):
+    """Raise NotSuited for the first clause that a turning does not suit."""
+    numbers = unsuited(book, turning)
+    if numbers:
+        raise NotSuited(numbers[0])

@@ -1,7 +1,7 @@
 """Clauses: small sets of literals of different names."""
 
-from renamedhorn.errors import BothSigns, TooMany
-from renamedhorn.literals import in_order, is_positive, name_of, negated
+from renamedhorn.errors import TooMany
+from renamedhorn.literals import check_signs, in_order, is_positive, name_of
 
 
 class Clause:
@@ -11,9 +11,7 @@ class Clause:
 
     def __init__(self, *literals):
         ordered = in_order(literals)
-        for literal in ordered:
-            if negated(literal) in ordered:
-                raise BothSigns(name_of(literal))
+        check_signs(ordered)
         if len(ordered) > Clause.LIMIT:
             raise TooMany(Clause.LIMIT)
         self.literals = tuple(ordered)

@@ -1,8 +1,8 @@
 """Following: what clauses make hold, one after another, once some facts are taken to hold."""
 
 from renamedhorn.clauses import Clause
-from renamedhorn.errors import BothSigns, NotHeld, TooMany
-from renamedhorn.literals import check_literal, in_order, name_of, negated
+from renamedhorn.errors import NotHeld, TooMany
+from renamedhorn.literals import check_literal, check_signs, in_order, negated
 
 MOST_FACTS = 12
 
@@ -10,9 +10,7 @@ MOST_FACTS = 12
 def checked_facts(facts):
     """The different facts in literal order; this raises the errors of the facts."""
     ordered = in_order(facts)
-    for literal in ordered:
-        if negated(literal) in ordered:
-            raise BothSigns(name_of(literal))
+    check_signs(ordered)
     if len(ordered) > MOST_FACTS:
         raise TooMany(MOST_FACTS)
     return tuple(ordered)

@@ -1,6 +1,6 @@
 """Names and literals: what they are, and the orders in which they stand."""
 
-from renamedhorn.errors import BadLiteral, BadName
+from renamedhorn.errors import BadLiteral, BadName, BothSigns
 
 LETTERS = "abcdefghijklmnopqrstuvwxyz"
 LETTERS_AND_DIGITS = "abcdefghijklmnopqrstuvwxyz0123456789"
@@ -65,3 +65,10 @@ def in_order(literals):
     """The different literals of a list, in literal order."""
     names = [name_of(literal) for literal in literals]
     return [literal for literal in both_signs(sorted(set(names))) if literal in literals]
+
+
+def check_signs(ordered):
+    """Raise BothSigns for the first name of which both literals are among some in literal order."""
+    for literal in ordered:
+        if negated(literal) in ordered:
+            raise BothSigns(name_of(literal))

@@ -6,6 +6,7 @@ from renamedhorn.following import checked_facts, is_broken, rows_of, steps_from
 from renamedhorn.literals import in_order, negated
 from renamedhorn.products import all_turnings
 from renamedhorn.refutations import Refutation
+from renamedhorn.turnings import Turning
 
 
 class Answer:
@@ -44,21 +45,26 @@ def _split_name(rows, held, names):
     return best
 
 
-def _by_splits(rows, names, facts):
-    """The answer for rows over some names and facts, by splits at names that following leaves open."""
+def answer_by_splits(book, names, turning, facts):
+    """The answer for a book and facts, by splits at those of the names that following leaves open.
+
+    The turning suits the book without these names. What is open in the end is a no under it.
+    """
+    rows = rows_of(book)
     steps = steps_from(rows, facts)
     if is_broken(steps):
         return Answer(None, Refutation(steps))
     held = _held_after(facts, steps)
     left = _open_names(names, held)
     if not left:
-        return Answer(tuple(in_order(held)), None)
+        model = held + _all_no(_open_names(book.names, held), turning)
+        return Answer(tuple(in_order(model)), None)
     # In a halved book without a model some name breaks at once on both sides: one split is enough.
     name = _split_name(rows, held, left)
-    when = _by_splits(rows, names, facts + [name])
+    when = answer_by_splits(book, names, turning, facts + (name,))
     if when.model is not None:
         return when
-    unless = _by_splits(rows, names, facts + [negated(name)])
+    unless = answer_by_splits(book, names, turning, facts + (negated(name),))
     if unless.model is not None:
         return unless
     return Answer(None, Refutation((), name, when.paper, unless.paper))
@@ -66,17 +72,11 @@ def _by_splits(rows, names, facts):
 
 def settle(book, facts=()):
     """The answer for a book and facts: a model of them or a refutation."""
-    given = list(checked_facts(facts))
-    rows = rows_of(book)
+    given = checked_facts(facts)
     turnings = all_turnings(book)
     if turnings.many == 0:
-        return _by_splits(rows, book.names, given)
-    steps = steps_from(rows, given)
-    if is_broken(steps):
-        return Answer(None, Refutation(steps))
-    held = _held_after(given, steps)
-    model = held + _all_no(_open_names(book.names, held), turnings[0])
-    return Answer(tuple(in_order(model)), None)
+        return answer_by_splits(book, book.names, Turning(), given)
+    return answer_by_splits(book, (), turnings[0], given)
 
 
 def can_hold(book, facts=()):

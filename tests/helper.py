@@ -6,11 +6,14 @@ import unittest
 
 from renamedhorn.books import Book
 from renamedhorn.clauses import Clause
-from renamedhorn.errors import BadLiteral, BothSigns, TooMany
+from renamedhorn.errors import BadLiteral, BothSigns, NoModel, NotHeld, NotPlain, NotSuited, TooMany
+from renamedhorn.literals import name_of
+from renamedhorn.refutations import Refutation
 
 TWELVE = list("abcdefghijkl")
 THIRTEEN = [*TWELVE, "m"]
 NO_NAMES = ["", "-", "-a", "A", "a b", "1a", "a_", "abcdefghi", "name_of_nine", "a\n"]
+OTHER_THAN_FACTS = (NoModel, NotHeld, NotPlain, NotSuited)
 NO_LITERALS = ["", "-", "--a", "A", "-A", "a b", "a | b", "0", "-1a", "abcdefghi", "-abcdefghi"]
 
 
@@ -37,6 +40,8 @@ class Case(unittest.TestCase):
     def facts_are_checked(self, call):
         """Assert that a call of facts raises the errors of the facts in their order."""
         for kind in (list, tuple):
+            for facts in ([], ["a", "a"], TWELVE, [*TWELVE, *TWELVE], ["-" + name for name in THIRTEEN[1:]]):
+                self.takes_facts(call, kind(facts))
             for text in NO_LITERALS:
                 self.refused(BadLiteral, call, kind(["a", text, "B"]), text=text)
                 self.refused(BadLiteral, call, kind(["a", "-a", *THIRTEEN, text]), text=text)
@@ -44,6 +49,23 @@ class Case(unittest.TestCase):
             self.refused(BothSigns, call, kind([*THIRTEEN, "-m"]), name="m")
             self.refused(TooMany, call, kind(THIRTEEN), limit=12)
             self.refused(TooMany, call, kind(["-" + name for name in [*THIRTEEN, "n"]]), limit=12)
+
+    def takes_facts(self, call, facts):
+        """Assert that a call of facts does not raise the errors of the facts and does not change them."""
+        before = list(facts)
+        try:
+            call(facts)
+        except OTHER_THAN_FACTS:
+            pass
+        self.assertEqual(list(facts), before)
+
+    def refused_by_paper(self, call, book, facts):
+        """Assert that a call raises NoModel with a refutation of the book and the facts, and return this."""
+        with self.assertRaises(NoModel) as caught:
+            call(book, facts)
+        self.assertIs(type(caught.exception.paper), Refutation)
+        self.assertIs(caught.exception.paper.refutes(book, facts), True)
+        return caught.exception.paper
 
 
 def opposite(literal):
@@ -106,6 +128,17 @@ def holds(choice, book):
     return all(any(part in choice for part in book[number]) for number in book)
 
 
+def models_by_hand(book, facts):
+    """All models of a book and facts, in the order of models."""
+    names = sorted({*book.names, *[name_of(fact) for fact in facts]})
+    return [choice for choice in choices(names) if set(facts) <= set(choice) and holds(choice, book)]
+
+
+def parts_of(paper):
+    """The parts of a refutation that have no name."""
+    return [paper] if paper.name is None else parts_of(paper.when) + parts_of(paper.unless)
+
+
 def drawn_clause(draw, names, sizes):
     """A drawn clause over some names with a drawn one of the sizes."""
     chosen = draw.sample(names, min(draw.choice(sizes), len(names)))
@@ -148,6 +181,21 @@ def drawn_halved_books(seed, many):
         if not suiting(book):
             books.append(book)
     return books
+
+
+def plain_cases(seed):
+    """Plain books with turnings that suit them and with facts, always the same ones for a seed."""
+    draw = random.Random(seed)
+    books = [
+        Book(), Book(Clause()), Book(Clause("a")), Book(Clause("a"), Clause("-a")),
+        *drawn_books(seed + 1, 60, TWELVE[:4], 6, [1, 2, 2, 3]),
+        *drawn_books(seed + 2, 60, TWELVE[:5], 12, [1, 1, 2]),
+        *drawn_books(seed + 3, 40, TWELVE[:6], 5, [2, 3, 4]),
+    ]
+    for book in books:
+        for turned in suiting(book)[:2] + suiting(book)[2:][-1:]:
+            for facts in ([], drawn_facts(draw, book.names, 2), drawn_facts(draw, book.names, 5)):
+                yield book, turned, facts
 
 
 def state(book):

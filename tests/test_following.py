@@ -109,7 +109,7 @@ class FollowTest(Case):
         book = Book(Clause("a"))
         self.facts_are_checked(lambda facts: follow(book, facts))
         self.facts_are_checked(lambda facts: list(following(book, facts)))
-        self.facts_are_checked(lambda facts: next(iter(following(Book(), facts))))
+        self.facts_are_checked(lambda facts: next(iter(following(Book(), facts)), None))
 
     def test_twelve_facts(self):
         book = Book(Clause("-l", "m"))

@@ -57,6 +57,24 @@ FUNCTIONS = {
         "settled": "(book, facts=())",
         "models": "(book, facts=())",
     },
+    "models": {
+        "is_model": "(book, literals)",
+        "below": "(turning, one, other)",
+        "meet": "(turning, one, other)",
+    },
+    "lowering": {
+        "lowest": "(book, turning, facts=())",
+    },
+    "rules": {
+        "rules": "(book, turning)",
+        "rounds": "(book, turning, facts=())",
+        "chained": "(book, turning, facts=())",
+        "derivation": "(book, turning, literal, facts=())",
+    },
+    "leaving": {
+        "left_out": "(book)",
+        "least_left": "(book)",
+    },
 }
 
 CLASSES = {
@@ -71,7 +89,10 @@ CLASSES = {
 }
 
 # Classes of which the interface does not say how their objects are made.
-RESULTS = ["products.Product", "standings.Standing", "values.GameValue", "following.Trail", "settling.Answer"]
+RESULTS = [
+    "products.Product", "standings.Standing", "values.GameValue", "following.Trail", "settling.Answer", "rules.Rule",
+    "leaving.Leaving",
+]
 
 METHODS = {
     "shares.Share": "add radd sub rsub mul rmul floordiv rfloordiv neg abs bool eq lt le gt ge str",
