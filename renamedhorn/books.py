@@ -156,3 +156,8 @@ def check_suited(book, turning):
     numbers = unsuited(book, turning)
     if numbers:
         raise NotSuited(numbers[0])
+
+
+def given_up_to(book, last):
+    """A copy of a book that has given all numbers up to the last one."""
+    return _book_of(book._placed, last)

@@ -5,7 +5,7 @@ a turning that turns the name says yes to that literal. So codes are ordered as 
 as models are.
 """
 
-from renamedhorn.literals import both_signs, is_positive, name_of
+from renamedhorn.literals import both_signs, is_positive, name_of, negated
 
 
 def _bit(names, name):
@@ -57,6 +57,14 @@ def lacking(codes, bits):
     """The codes in which not all of some bits are 0 and of others 1."""
     zeros, ones = bits
     return [code for code in codes if code & zeros != 0 or code & ones != ones]
+
+
+def model_codes(book, names):
+    """The codes over names, those of a book among them, that have a literal of each of its clauses."""
+    codes = all_codes(names)
+    for number in book:
+        codes = lacking(codes, bits_of(names, [negated(literal) for literal in book[number]]))
+    return codes
 
 
 def bonded(codes, when, then):

@@ -1,6 +1,6 @@
 """Names and literals: what they are, and the orders in which they stand."""
 
-from renamedhorn.errors import BadLiteral, BadName, BothSigns
+from renamedhorn.errors import BadLiteral, BadName, BothSigns, NoName, OtherNames, TooMany
 
 LETTERS = "abcdefghijklmnopqrstuvwxyz"
 LETTERS_AND_DIGITS = "abcdefghijklmnopqrstuvwxyz0123456789"
@@ -72,3 +72,24 @@ def check_signs(ordered):
     for literal in ordered:
         if negated(literal) in ordered:
             raise BothSigns(name_of(literal))
+
+
+def few_names(names, limit):
+    """The different names of a list, in ascending order; more than the limit are refused."""
+    ordered = names_in_order(names)
+    if len(ordered) > limit:
+        raise TooMany(limit)
+    return ordered
+
+
+def check_known(names, wanted):
+    """Raise NoName for the first wanted name that is not among the names."""
+    for name in wanted:
+        if name not in names:
+            raise NoName(name)
+
+
+def check_same(names, others):
+    """Raise OtherNames if two rows of names are not the same."""
+    if list(names) != list(others):
+        raise OtherNames()

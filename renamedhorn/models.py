@@ -1,7 +1,6 @@
 """Models: literals that make a book hold, and how such literals compare under a turning."""
 
-from renamedhorn.errors import OtherNames
-from renamedhorn.literals import check_signs, in_order, name_of, negated
+from renamedhorn.literals import check_same, check_signs, in_order, name_of, negated
 
 
 def is_model(book, literals):
@@ -28,8 +27,7 @@ def meet(turning, one, other):
     others = in_order(other)
     check_signs(ones)
     check_signs(others)
-    if [name_of(literal) for literal in ones] != [name_of(literal) for literal in others]:
-        raise OtherNames()
+    check_same([name_of(literal) for literal in ones], [name_of(literal) for literal in others])
     return tuple([
         second if turning.says_yes(first) else first
         for first, second in zip(ones, others)

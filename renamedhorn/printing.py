@@ -6,9 +6,14 @@ def clause_text(clause):
     return str(clause)
 
 
+def book_lines(book):
+    """The lines of the text of a book, one for each clause."""
+    return [f"{number} {clause_text(book[number])}" for number in book]
+
+
 def book_text(book):
     """The text of a book: a line for each clause."""
-    return "\n".join([f"{number} {clause_text(book[number])}" for number in book])
+    return "\n".join(book_lines(book))
 
 
 def _weight_line(name, share):

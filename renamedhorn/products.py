@@ -3,31 +3,10 @@
 from renamedhorn.codes import (
     all_codes, apart_parts, bits_of, by_needs, closure, code_of, common_bits, having, recoded, turned_in,
 )
-from renamedhorn.errors import NoName, NoPlace, NoTurning, OtherNames, SharedName, TooMany
-from renamedhorn.literals import check_name, name_of, names_in_order
+from renamedhorn.errors import NoPlace, NoTurning, SharedName
+from renamedhorn.literals import check_known, check_name, check_same, few_names, name_of, names_in_order
 from renamedhorn.needs import all_needs
 from renamedhorn.turnings import Turning
-
-
-def _limited(names):
-    """The different names of a list, in ascending order; more than a product may have are refused."""
-    ordered = names_in_order(names)
-    if len(ordered) > Product.LIMIT:
-        raise TooMany(Product.LIMIT)
-    return ordered
-
-
-def _check_known(names, wanted):
-    """Raise NoName for the first wanted name that is not among the names."""
-    for name in wanted:
-        if name not in names:
-            raise NoName(name)
-
-
-def _check_same_names(one, other):
-    """Raise OtherNames if two products do not have the same names."""
-    if one._names != other._names:
-        raise OtherNames()
 
 
 def _turning_of(names, code):
@@ -52,13 +31,13 @@ def _code_held(product, turning):
 
 def _codes_saying(product, literals):
     """The codes of the turnings of a product that say yes to all literals."""
-    _check_known(product._names, [name_of(literal) for literal in literals])
+    check_known(product._names, [name_of(literal) for literal in literals])
     return having(product._codes, bits_of(product._names, literals))
 
 
 def _met(one, other):
     """The product over the names of both of what is in both when it is cut down."""
-    names = _limited(one._names + other._names)
+    names = few_names(one._names + other._names, Product.LIMIT)
     every = all_codes(names)
     firsts = recoded(names, every, one._names)
     seconds = recoded(names, every, other._names)
@@ -82,15 +61,15 @@ class Product:
     @classmethod
     def free(cls, *names):
         """The product that holds all turnings of the names."""
-        ordered = _limited(names)
+        ordered = few_names(names, Product.LIMIT)
         return cls(ordered, all_codes(ordered))
 
     @classmethod
     def hull(cls, names, turnings):
         """The least product over the names that holds the turnings."""
-        ordered = _limited(names)
+        ordered = few_names(names, Product.LIMIT)
         for turning in turnings:
-            _check_known(ordered, turning.turned)
+            check_known(ordered, turning.turned)
         return cls(ordered, closure(ordered, [code_of(ordered, turning.turned) for turning in turnings]))
 
     @property
@@ -123,13 +102,13 @@ class Product:
     def onto(self, *names):
         """The product over some of the names of the turnings cut down to these."""
         ordered = names_in_order(names)
-        _check_known(self._names, names)
+        check_known(self._names, names)
         return Product(ordered, sorted(set(recoded(self._names, self._codes, ordered))))
 
     def side(self, name):
         """True if all turnings turn the name, False if none does, and None if only some do."""
         check_name(name)
-        _check_known(self._names, [name])
+        check_known(self._names, [name])
         if not self._codes:
             raise NoTurning()
         bit = code_of(self._names, [name])
@@ -181,14 +160,14 @@ class Product:
     def __le__(self, other):
         if not isinstance(other, Product):
             return NotImplemented
-        _check_same_names(self, other)
+        check_same(self._names, other._names)
         return all([code in other._places for code in self._codes])
 
     def __and__(self, other):
         return _met(self, other)
 
     def __or__(self, other):
-        _check_same_names(self, other)
+        check_same(self._names, other._names)
         return Product(self._names, closure(self._names, self._codes + other._codes))
 
     def __mul__(self, other):
@@ -206,10 +185,24 @@ def all_turnings(book):
 
 def parted(one, other):
     """The first turning that exactly one of two products holds, or None."""
-    _check_same_names(one, other)
+    check_same(one._names, other._names)
     ones = [code for code in one._codes if code not in other._places]
     others = [code for code in other._codes if code not in one._places]
     apart = sorted(set(ones + others))
     if not apart:
         return None
     return _turning_of(one._names, apart[0])
+
+
+def nearest(product, turning):
+    """The first of the turnings of a product that differ the least from a turning cut down to its names."""
+    names = product._names
+    code = code_of(names, turning.turned)
+    best = None
+    fewest = len(names) + 1
+    for other in product._codes:
+        many = len(turned_in(names, code ^ other))
+        if many < fewest:
+            best = other
+            fewest = many
+    return _turning_of(names, best)

@@ -7,9 +7,9 @@ from renamedhorn.errors import BadLiteral, BadNumber, BadText, BothSigns, TooMan
 MOST_DIGITS = 3
 
 
-def _is_number(word):
-    """Tell whether a word is a number of few digits without leading zeros."""
-    return word.isdecimal() and len(word) <= MOST_DIGITS and str(int(word)) == word
+def is_number(word, most):
+    """Tell whether a word is a number of at most so many digits without leading zeros."""
+    return word.isdecimal() and len(word) <= most and str(int(word)) == word
 
 
 def _clause_in(text, line):
@@ -30,7 +30,7 @@ def _clause_in(text, line):
 def _pair_in(row, line):
     """The number and the clause of one line of a book."""
     word, space, rest = row.partition(" ")
-    if not space or not _is_number(word):
+    if not space or not is_number(word, MOST_DIGITS):
         raise BadText(line)
     return int(word), _clause_in(rest, line)
 
@@ -48,14 +48,19 @@ def read_clause(text):
     return _clause_in(text, 1)
 
 
-def read_book(text):
-    """The book whose text is exactly the given one."""
+def book_in(rows):
+    """The book whose text has just these lines."""
     book = Book()
-    if text == "":
-        return book
     pairs = []
-    for line, row in enumerate(text.split("\n"), start=1):
+    for line, row in enumerate(rows, start=1):
         pairs.append(_pair_in(row, line))
         # A refused number goes ahead of a wrong form in any later line.
         book = _book_up_to(pairs, line)
     return book
+
+
+def read_book(text):
+    """The book whose text is exactly the given one."""
+    if text == "":
+        return Book()
+    return book_in(text.split("\n"))

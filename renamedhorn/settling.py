@@ -1,6 +1,6 @@
 """Settling: a model of a book and facts, or a refutation of them."""
 
-from renamedhorn.codes import all_codes, bits_of, common_literals, having, lacking, literals_in
+from renamedhorn.codes import bits_of, common_literals, having, literals_in, model_codes
 from renamedhorn.errors import NoModel
 from renamedhorn.following import checked_facts, is_broken, rows_of, steps_from
 from renamedhorn.literals import in_order, negated
@@ -86,11 +86,7 @@ def can_hold(book, facts=()):
 
 def _model_codes(book, given):
     """The codes over the names of a book of its models that have the facts."""
-    names = book.names
-    codes = having(all_codes(names), bits_of(names, given))
-    for number in book:
-        codes = lacking(codes, bits_of(names, [negated(literal) for literal in book[number]]))
-    return codes
+    return having(model_codes(book, book.names), bits_of(book.names, given))
 
 
 def models(book, facts=()):

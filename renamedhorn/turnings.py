@@ -1,8 +1,7 @@
 """Turnings: small sets of names that are turned over."""
 
 from renamedhorn.clauses import Clause
-from renamedhorn.errors import TooMany
-from renamedhorn.literals import check_name, is_positive, name_of, names_in_order, negated
+from renamedhorn.literals import check_name, few_names, is_positive, name_of, negated
 
 
 def turned_literal(turning, literal):
@@ -18,7 +17,7 @@ def turned_clause(turning, clause):
     return Clause(*literals)
 
 
-def _names_apart(one, other):
+def names_apart(one, other):
     """The names that exactly one of two turnings turns, in ascending order."""
     ones = [name for name in one.turned if name not in other.turned]
     others = [name for name in other.turned if name not in one.turned]
@@ -31,10 +30,7 @@ class Turning:
     LIMIT = 12
 
     def __init__(self, *names):
-        ordered = names_in_order(names)
-        if len(ordered) > Turning.LIMIT:
-            raise TooMany(Turning.LIMIT)
-        self.turned = tuple(ordered)
+        self.turned = tuple(few_names(names, Turning.LIMIT))
 
     @staticmethod
     def median(one, two, three):
@@ -51,7 +47,7 @@ class Turning:
 
     def apart(self, other):
         """The number of names that exactly one of two turnings turns."""
-        return len(_names_apart(self, other))
+        return len(names_apart(self, other))
 
     def __call__(self, part):
         if isinstance(part, Clause):
@@ -77,13 +73,13 @@ class Turning:
     def __lt__(self, other):
         if not isinstance(other, Turning):
             return NotImplemented
-        names = _names_apart(self, other)
+        names = names_apart(self, other)
         return len(names) > 0 and names[0] in other.turned
 
     def __le__(self, other):
         if not isinstance(other, Turning):
             return NotImplemented
-        names = _names_apart(self, other)
+        names = names_apart(self, other)
         return len(names) == 0 or names[0] in other.turned
 
     def __gt__(self, other):
@@ -97,7 +93,7 @@ class Turning:
         return other <= self
 
     def __xor__(self, other):
-        names = _names_apart(self, other)
+        names = names_apart(self, other)
         return Turning(*names)
 
     def __and__(self, other):

@@ -2,7 +2,7 @@
 
 from renamedhorn.clauses import Clause
 from renamedhorn.errors import BadWeight, HalfLeft, NoName, TooMany
-from renamedhorn.literals import check_name, is_positive, name_of, names_in_order
+from renamedhorn.literals import check_name, few_names, is_positive, name_of
 from renamedhorn.shares import Share
 from renamedhorn.turnings import Turning
 
@@ -82,9 +82,7 @@ class Weights:
     @staticmethod
     def of(turning, names):
         """The weights that give 0 to those of the names that are turned, and 1 to the others."""
-        ordered = names_in_order(names)
-        if len(ordered) > Weights.LIMIT:
-            raise TooMany(Weights.LIMIT)
+        ordered = few_names(names, Weights.LIMIT)
         return _weights_of({name: Share(int(name not in turning.turned)) for name in ordered})
 
     def most(self, book):

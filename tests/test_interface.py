@@ -75,6 +75,19 @@ FUNCTIONS = {
         "left_out": "(book)",
         "least_left": "(book)",
     },
+    "forgetting": {
+        "forget": "(book, name)",
+    },
+    "doors": {
+        "without": "(book, names)",
+        "is_door": "(book, names)",
+        "least_door": "(book)",
+        "settle_through": "(book, names, facts=())",
+    },
+    "saving": {
+        "desk_text": "(desk)",
+        "read_desk": "(text)",
+    },
 }
 
 CLASSES = {
@@ -86,12 +99,14 @@ CLASSES = {
     "weights.Weights": "(**shares)",
     "mixtures.Mixture": "(*numbers)",
     "refutations.Refutation": "(steps, name=None, when=None, unless=None)",
+    "desks.Desk": "(*clauses, strict=False)",
+    "families.Family": "(names, choices)",
 }
 
 # Classes of which the interface does not say how their objects are made.
 RESULTS = [
     "products.Product", "standings.Standing", "values.GameValue", "following.Trail", "settling.Answer", "rules.Rule",
-    "leaving.Leaving",
+    "leaving.Leaving", "doors.Door",
 ]
 
 METHODS = {
@@ -103,6 +118,8 @@ METHODS = {
     "weights.Weights": "iter len contains eq getitem setitem call",
     "mixtures.Mixture": "iter len contains eq getitem setitem add iadd mul rmul",
     "following.Trail": "iter len contains",
+    "desks.Desk": "getitem setitem",
+    "families.Family": "iter len contains eq lt le and or xor",
 }
 
 PLAIN_METHODS = {
@@ -137,6 +154,31 @@ PLAIN_METHODS = {
     },
     "following.Trail": {"why": "(self, literal)"},
     "refutations.Refutation": {"refutes": "(self, book, facts=())"},
+    "desks.Desk": {
+        "put": "(self, clause)",
+        "drop": "(self, number)",
+        "exchange": "(self, number, clause)",
+        "fact": "(self, literal)",
+        "unfact": "(self, literal)",
+        "turn": "(self, *literals)",
+        "edit": "(self, *edits)",
+        "undo": "(self)",
+        "redo": "(self)",
+        "be_strict": "(self, flag)",
+        "supposing": "(self, *edits)",
+        "stand": "(self)",
+        "answer": "(self, *literals)",
+    },
+    "families.Family": {
+        "onto": "(self, *names)",
+        "span": "(self, turning)",
+        "corners": "(self, turning)",
+        "says": "(self, clause)",
+        "closed": "(self, turning)",
+        "gap": "(self, turning)",
+        "closing": "(self)",
+        "clauses": "(self, turning)",
+    },
 }
 
 STATIC_METHODS = {
@@ -147,6 +189,7 @@ STATIC_METHODS = {
 CLASS_METHODS = {
     "books.Book": {"numbered": "(cls, pairs)"},
     "products.Product": {"free": "(cls, *names)", "hull": "(cls, names, turnings)"},
+    "families.Family": {"of": "(cls, book, names)"},
 }
 PROPERTIES = {
     "clauses.Clause": ["names", "positives"],
@@ -156,6 +199,8 @@ PROPERTIES = {
     "mixtures.Mixture": ["total"],
     "following.Trail": ["held"],
     "refutations.Refutation": ["depth"],
+    "desks.Desk": ["book", "kept_facts", "current", "changed", "history", "ahead", "strict"],
+    "families.Family": ["names"],
 }
 CLASS_VALUES = {
     "clauses.Clause": {"LIMIT": 6},
@@ -164,6 +209,7 @@ CLASS_VALUES = {
     "products.Product": {"LIMIT": 12},
     "weights.Weights": {"LIMIT": 12},
     "mixtures.Mixture": {"LIMIT": 1000000},
+    "families.Family": {"LIMIT": 6},
 }
 
 
