@@ -92,9 +92,9 @@ EDITS = {"put": _put, "drop": _drop, "exchange": _exchange, "fact": _fact, "unfa
 def _edited(sheet, edit, at):
     """The sheet after one of several edits."""
     action = EDITS[edit[0]]
-    args = edit[1:]
+    parts = edit[1:]
     try:
-        return action(sheet, *args)
+        return action(sheet, *parts)
     except HornError as error:
         raise EditRefused(at) from error
 
