@@ -36,8 +36,11 @@ def _all_turned(placed, turning):
     return {number: turned_clause(turning, clause) for number, clause in placed.items()}
 
 
-def _book_of(placed, last):
-    """The book that holds clauses at their numbers and has given all numbers up to the last one."""
+def book_of(placed, last):
+    """The book that holds clauses at their numbers and has given all numbers up to the last one.
+
+    The numbers are in ascending order, and the clauses are no more than a book may have.
+    """
     book = Book()
     book._placed = placed
     book._last = last
@@ -70,7 +73,7 @@ class Book:
             _check_room(placed, clause)
             placed[number] = clause
             last = number
-        return _book_of(placed, last)
+        return book_of(placed, last)
 
     @property
     def names(self):
@@ -99,7 +102,7 @@ class Book:
 
     def copy(self):
         """An equal book with the same next number that changes independently."""
-        return _book_of(self._placed, self._last)
+        return book_of(self._placed, self._last)
 
     def __iter__(self):
         return iter(self._placed)
@@ -139,7 +142,7 @@ class Book:
         return Book(*clauses)
 
     def __xor__(self, other):
-        return _book_of(_all_turned(self._placed, other), self._last)
+        return book_of(_all_turned(self._placed, other), self._last)
 
     def __ixor__(self, other):
         self._placed = _all_turned(self._placed, other)
@@ -156,8 +159,3 @@ def check_suited(book, turning):
     numbers = unsuited(book, turning)
     if numbers:
         raise NotSuited(numbers[0])
-
-
-def given_up_to(book, last):
-    """A copy of a book that has given all numbers up to the last one."""
-    return _book_of(book._placed, last)

@@ -1,5 +1,6 @@
 """Doors: names without which a book is plain, and settling by splits at these names."""
 
+from renamedhorn.books import book_of
 from renamedhorn.clauses import Clause
 from renamedhorn.errors import NotPlain, TooMany
 from renamedhorn.following import checked_facts
@@ -20,14 +21,17 @@ class Door:
         self.rings = rings
 
 
+def _clause_without(clause, names):
+    """A clause that has lost the literals of some names."""
+    literals = [literal for literal in clause if name_of(literal) not in names]
+    return Clause(*literals)
+
+
 def without(book, names):
     """The book whose clauses have lost the literals of some names."""
     lost = names_in_order(names)
-    left = book.copy()
-    for number in list(book):
-        literals = [literal for literal in book[number] if name_of(literal) not in lost]
-        left[number] = Clause(*literals)
-    return left
+    left = {number: _clause_without(book[number], lost) for number in book}
+    return book_of(left, book.next_number - 1)
 
 
 def is_door(book, names):

@@ -1,5 +1,6 @@
 """Following: what clauses make hold, one after another, once some facts are taken to hold."""
 
+from renamedhorn.books import book_of
 from renamedhorn.clauses import Clause
 from renamedhorn.errors import NotHeld, TooMany
 from renamedhorn.literals import check_literal, check_signs, in_order, negated
@@ -103,13 +104,11 @@ def follow(book, facts=()):
 
 def rest(book, trail):
     """The book of what a trail leaves of those clauses that it does not make hold."""
-    left = book.copy()
     held = trail.held
-    for number in list(book):
+    left = {}
+    for number in book:
         clause = book[number]
-        if any([literal in held for literal in clause]):
-            left.drop(number)
-        else:
+        if not any([literal in held for literal in clause]):
             literals = [literal for literal in clause if negated(literal) not in held]
             left[number] = Clause(*literals)
-    return left
+    return book_of(left, book.next_number - 1)

@@ -1,6 +1,6 @@
 """Saving: the texts of desks, and desks from their texts."""
 
-from renamedhorn.books import Book, given_up_to
+from renamedhorn.books import Book, book_of
 from renamedhorn.desks import desk_of
 from renamedhorn.errors import BadLiteral, BadName, BadText, BothSigns, TooMany
 from renamedhorn.following import checked_facts
@@ -57,7 +57,7 @@ def _with_next(book, lines, place):
     word = _row_at(lines, place).removeprefix(NEXT)
     if not is_number(word, MOST_DIGITS) or not book.next_number <= int(word) <= Book.NUMBERS + 1:
         raise BadText(place + 1)
-    return given_up_to(book, int(word) - 1)
+    return book_of({number: book[number] for number in book}, int(word) - 1)
 
 
 def _facts_in(lines, place):
