@@ -198,6 +198,37 @@ def made_here(function):
     ]
 
 
+def kinds_of_names():
+    """The names of properties, of static and class methods, of plain methods, of attributes and of generators."""
+    found = {kind: set() for kind in ("property", "static", "plain", "attribute", "generator", "function")}
+    for path in FILES:
+        tree = ast.parse(path.read_text(encoding="utf-8"))
+        found["function"] |= {row.name for row in tree.body if isinstance(row, ast.FunctionDef)}
+        for node in ast.walk(tree):
+            if isinstance(node, ast.Attribute) and isinstance(node.ctx, ast.Store):
+                found["attribute"].add(node.attr)
+            if isinstance(node, ast.FunctionDef) and any(isinstance(part, ast.Yield) for part in ast.walk(node)):
+                found["generator"].add(node.name)
+            if isinstance(node, ast.ClassDef):
+                for row in [row for row in node.body if isinstance(row, ast.FunctionDef)]:
+                    words = [ast.unparse(over).split(".")[-1] for over in row.decorator_list]
+                    kind = "property" if set(words) & {"property", "setter"} else "static" if words else "plain"
+                    found[kind].add(row.name)
+    return found
+
+
+def imported_files():
+    """For each file of the package the files from which it imports."""
+    return {
+        path.stem: {
+            node.module.removeprefix("renamedhorn.")
+            for node in ast.parse(path.read_text(encoding="utf-8")).body
+            if isinstance(node, ast.ImportFrom) and node.module.startswith("renamedhorn.")
+        }
+        for path in FILES
+    }
+
+
 class FormTest(unittest.TestCase):
     def test_the_folder_holds_only_files_of_the_package(self):
         found = [path.name for path in PACKAGE.iterdir() if path.name != "__pycache__"]
@@ -294,6 +325,26 @@ class FormTest(unittest.TestCase):
         for text in ("for x in xs:\n  ys.append(x)", "for x in list(xs):\n  xs.pop()", "for x in xs:\n  xs = [x]"):
             function = ast.parse("def f(xs):\n  " + text.replace("\n", "\n  "))
             self.assertEqual(changed_while_walked(function), [], text)
+
+    def test_names_that_mean_one_thing_alone(self):
+        found = kinds_of_names()
+        self.assertEqual(found["property"] & (found["plain"] | found["static"]), set())
+        # This one has a setter, so it is assigned as an attribute is.
+        self.assertEqual(found["property"] & found["attribute"], {"strict"})
+        self.assertEqual(found["static"] & (found["plain"] | found["attribute"]), set())
+        self.assertEqual(found["plain"] & found["attribute"], set())
+        self.assertEqual(found["generator"], {"walk", "following", "models"})
+        self.assertEqual(found["generator"] & (found["property"] | found["static"] | found["attribute"]), set())
+        for path in FILES:
+            names = set(local_names(ast.parse(path.read_text(encoding="utf-8"))))
+            self.assertEqual(names & found["generator"], set(), path.name)
+
+    def test_no_two_files_import_from_each_other(self):
+        left = imported_files()
+        while left:
+            free = [file for file, others in left.items() if not others & set(left)]
+            self.assertNotEqual(free, [], left)
+            left = {file: others for file, others in left.items() if file not in free}
 
     def look_at_import(self, node):
         """Assert that an import names a file of the package or a permitted word of the library."""
